@@ -1,0 +1,1 @@
+"""Sets of numbered things, and the chains on which they lie."""
