@@ -18,3 +18,13 @@ def check_set(many, members):
         if member < least or member >= many:
             raise NoSet("the list is no rising list of things, each once")
         least = member + 1
+
+
+def check_family(many, family):
+    check_many(many)
+    met = {}
+    for members in family:
+        check_set(many, members)
+        if tuple(members) in met:
+            raise NoSet("the family has the same set twice")
+        met[tuple(members)] = True

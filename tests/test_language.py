@@ -86,6 +86,32 @@ class Language(unittest.TestCase):
             if isinstance(node, ast.arg):
                 self.assertFalse(hasattr(builtins, node.arg) or node.arg.startswith("_"), (name, node.arg))
 
+    def test_nothing_is_called_like_an_import_of_its_file(self):
+        for name, text in sources():
+            tree = ast.parse(text)
+            drawn = {one.name for node in tree.body if isinstance(node, ast.ImportFrom) for one in node.names}
+            for node in ast.walk(tree):
+                if isinstance(node, ast.Name) and isinstance(node.ctx, ast.Store):
+                    self.assertNotIn(node.id, drawn, name)
+                if isinstance(node, ast.arg):
+                    self.assertNotIn(node.arg, drawn, name)
+
+    def test_no_two_files_draw_from_one_another(self):
+        drawn = {name: set() for name, text in sources()}
+        for name, node in nodes():
+            if isinstance(node, ast.ImportFrom):
+                drawn[name].add(node.module.partition(".")[2] + ".py")
+        # Files that draw from no file that is left are taken away, until none is left.
+        while drawn:
+            settled = [name for name in drawn if not drawn[name] & set(drawn)]
+            self.assertNotEqual(settled, [])
+            drawn = {name: drawn[name] for name in drawn if name not in settled}
+
+    def test_powers(self):
+        for name, node in nodes():
+            if isinstance(node, ast.BinOp) and isinstance(node.op, ast.Pow):
+                self.assertIsInstance(node.right, ast.Constant, name)
+
     def test_methods(self):
         for name, node in nodes():
             if isinstance(node, ast.Attribute):

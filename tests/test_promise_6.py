@@ -1,9 +1,11 @@
 """Point 6: each set lies on just one chain, and how many chains there are."""
 
+import math
 import unittest
 
 from samples import all_sets
 from setchains.chains import chain
+from setchains.numbers import how_many
 
 
 def distinct_chains(many):
@@ -32,6 +34,22 @@ class Chains(unittest.TestCase):
         for many in range(11):
             middle = [members for members in all_sets(many) if len(members) == many // 2]
             self.assertEqual(len(distinct_chains(many)), len(middle))
+
+    def test_how_many_as_chains_that_were_found(self):
+        for many in range(11):
+            self.assertEqual(how_many(many), len(distinct_chains(many)))
+
+    def test_how_many_as_ways_to_pick_half_of_the_things(self):
+        for many in range(41):
+            self.assertEqual(how_many(many), math.comb(many, many // 2))
+
+    def test_how_many_told_examples(self):
+        self.assertEqual([how_many(many) for many in range(9)], [1, 1, 2, 3, 6, 10, 20, 35, 70])
+        self.assertEqual(how_many(40), 137846528820)
+
+    def test_how_many_is_a_whole_number(self):
+        for many in range(41):
+            self.assertIs(type(how_many(many=many)), int)
 
 
 if __name__ == "__main__":
